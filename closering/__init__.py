@@ -1,0 +1,1 @@
+"""Closering: heights told by differences, and the ring that doesn't close."""
