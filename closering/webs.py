@@ -40,6 +40,10 @@ def alike(one, other, turn):
     return (one - other) % turn == 0
 
 
+def is_friend(tie, turn):
+    return alike(tie[2], 0, turn)
+
+
 class Web:
     def __init__(self, points, ties, turn):
         if not is_within(points, 1, MOST):

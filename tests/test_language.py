@@ -26,6 +26,10 @@ NO_EXPRESSIONS = (ast.SetComp, ast.DictComp, ast.GeneratorExp, ast.NamedExpr, as
 
 METHODS = set("""__init__ __eq__ __repr__ __str__ __len__""".split())
 
+VALUE_METHODS = set("""append clear copy count endswith extend find get index insert isalnum isalpha isdigit islower
+isspace isupper items join keys ljust lower lstrip partition pop remove replace reverse rfind rjust rpartition rsplit
+rstrip setdefault split splitlines startswith strip update upper values zfill bit_length""".split())
+
 NO_WORDS = re.compile(r"\b(type|typing|typing_extensions|enum|Enum|IntEnum|StrEnum|Flag|IntFlag|Generic|Protocol|ABC"
                       r"|ABCMeta|namedtuple|NamedTuple|TypedDict|TYPE_CHECKING|abstractmethod)\b"
                       r"|dataclass|overload|contextmanager")
@@ -90,6 +94,42 @@ class TheLanguage(unittest.TestCase):
                 if name not in METHODS:
                     self.assertRegex(name, r"\A[A-Za-z][A-Za-z0-9_]*\Z", path)
                     self.assertFalse(hasattr(builtins, name), (path, name))
+
+    def test_no_parameter_or_local_is_called_like_a_class_or_an_import_of_its_file(self):
+        for path, tree in TREES.items():
+            taken = {node.name for node in tree.body if isinstance(node, ast.ClassDef)}
+            taken |= {name.name for node in tree.body if isinstance(node, ast.ImportFrom) for name in node.names}
+            for home in ast.walk(tree):
+                if isinstance(home, ast.FunctionDef):
+                    local = {name for node in ast.walk(home) for name in bound_names(node)}
+                    self.assertEqual(local & taken, set(), (path, home.name))
+
+    def test_names_are_drawn_from_the_files_that_define_them_and_never_in_a_circle(self):
+        drawn = {}
+        for path, node in nodes(ast.ImportFrom):
+            home = PACKAGE.joinpath(*node.module.split(".")[1:]).with_suffix(".py")
+            drawn.setdefault(path, set()).add(home)
+            defined = {name for top in TREES[home].body for name in bound_names(top)}
+            defined |= {name.id for top in TREES[home].body if isinstance(top, ast.Assign) for name in top.targets}
+            for name in node.names:
+                self.assertIn(name.name, defined, path)
+        left = set(SOURCES)
+        while left:
+            free = {path for path in left if not drawn.get(path, set()) & left}
+            self.assertTrue(free, left)
+            left -= free
+
+    def test_called_methods(self):
+        own = {node.name for path, node in nodes(ast.FunctionDef)}
+        for path, node in nodes(ast.Call):
+            if isinstance(node.func, ast.Attribute):
+                self.assertIn(node.func.attr, VALUE_METHODS | own, (path, node.lineno))
+
+    def test_is_stands_beside_none_true_and_false_alone(self):
+        for path, node in nodes(ast.Compare):
+            for sign, value in zip(node.ops, node.comparators):
+                if isinstance(sign, (ast.Is, ast.IsNot)):
+                    self.assertIsInstance(value, ast.Constant, (path, node.lineno))
 
     def test_no_name_is_a_method_and_a_value(self):
         methods = {node.name for path, home in nodes(ast.ClassDef) for node in home.body
